@@ -1,0 +1,78 @@
+"""Slow scoring, by the words of the document, to compare the program with."""
+
+OTHER = {"A": "B", "B": "A"}
+
+
+def short_races(most):
+    """The races (n, m) with n up to `most`."""
+    return [(n, m) for n in range(1, most + 1) for m in range(1, n + 1)]
+
+
+def next_score(race, score, side):
+    """One more unit of a side: the score and whether it has won."""
+    n, m = race
+    units = dict(zip("AB", score))
+    units[side] += 1
+    won = units[side] >= n and units[side] - units[OTHER[side]] >= m
+    return (units["A"], units["B"]), won
+
+
+def reached_scores(race, most):
+    """Score unit by unit: the set of the open scores, and a dict of the final
+    ones with their winners, of all scores with at most `most` units a side."""
+    opened, finals, waiting = {(0, 0)}, {}, [(0, 0)]
+    while waiting:
+        score = waiting.pop()
+        for side in "AB":
+            following, won = next_score(race, score, side)
+            if max(following) > most:
+                continue
+            if won:
+                finals[following] = side
+            elif following not in opened:
+                opened.add(following)
+                waiting.append(following)
+    return opened, finals
+
+
+def futures_agree(race, first, second, depth):
+    """Whether every string of up to `depth` further units has the same effect."""
+    pairs = {(first, second)}
+    for _ in range(depth):
+        following = set()
+        for one, two in pairs:
+            for side in "AB":
+                one_next, one_won = next_score(race, one, side)
+                two_next, two_won = next_score(race, two, side)
+                if one_won != two_won:
+                    return False
+                if not one_won and one_next != two_next:
+                    following.add((one_next, two_next))
+        pairs = following
+    return True
+
+
+def play_slowly(rule, points):
+    """Play point by point: (number of points at the end or None, winner, all
+    lists of scores from the start to the last point that counts)."""
+    counts = [[0, 0] for _ in rule]
+    told = [[tuple(units) for units in counts]]
+    for number, side in enumerate(points, 1):
+        at = "AB".index(side)
+        level = 0
+        over = not rule
+        while level < len(rule):
+            n, m = rule[level]
+            counts[level][at] += 1
+            own, other = counts[level][at], counts[level][1 - at]
+            if own < n or own - other < m:
+                break
+            if level == len(rule) - 1:
+                over = True
+                break
+            counts[level] = [0, 0]
+            level += 1
+        told.append([tuple(units) for units in counts])
+        if over:
+            return number, side, told
+    return None, None, told

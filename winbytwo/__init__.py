@@ -1,0 +1,1 @@
+"""Winbytwo: matches of nested races."""
