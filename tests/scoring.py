@@ -1,6 +1,17 @@
-"""Slow scoring, by the words of the document, to compare the program with."""
+"""Slow scoring, by the words of the document, to compare the program with, and
+a test case that compares errors."""
+
+import unittest
 
 OTHER = {"A": "B", "B": "A"}
+
+
+class ErrorCase(unittest.TestCase):
+    def assert_fails(self, wanted, value, call, *given):
+        with self.assertRaises(wanted) as told:
+            call(*given)
+        self.assertIs(type(told.exception), wanted)
+        self.assertEqual(told.exception.value, value)
 
 
 def short_races(most):

@@ -3,7 +3,7 @@
 import itertools
 import unittest
 
-from scoring import futures_agree, reached_scores, short_races
+from scoring import ErrorCase, futures_agree, reached_scores, short_races
 from winbytwo import races
 from winbytwo.errors import InvalidNumber, InvalidRace, InvalidScore
 from winbytwo.races import final_scores, race_winner, same_open_scores
@@ -13,15 +13,7 @@ NO_RACES = [(0, 0), (1, 0), (0, 1), (2, 3), (1, 2), (-1, -1), (3, -1), (3, 0),
             (-1, 1), (), (3,), (3, 2, 1)]
 
 
-class RaceCase(unittest.TestCase):
-    def assert_fails(self, wanted, value, call, *given):
-        with self.assertRaises(wanted) as told:
-            call(*given)
-        self.assertIs(type(told.exception), wanted)
-        self.assertEqual(told.exception.value, value)
-
-
-class RaceWinnerTest(RaceCase):
+class RaceWinnerTest(ErrorCase):
     def test_all_scores_of_short_races(self):
         for race in short_races(6):
             opened, finals = reached_scores(race, 14)
@@ -76,7 +68,7 @@ class RaceWinnerTest(RaceCase):
             self.assert_fails(InvalidRace, None, race_winner, race, (0, 0))
 
 
-class FinalScoresTest(RaceCase):
+class FinalScoresTest(ErrorCase):
     def test_all_final_scores_of_short_races(self):
         for race in short_races(6):
             _, finals = reached_scores(race, 20)
@@ -117,7 +109,7 @@ class FinalScoresTest(RaceCase):
                 self.assert_fails(InvalidNumber, most, first_of, race, most)
 
 
-class SameOpenScoresTest(RaceCase):
+class SameOpenScoresTest(ErrorCase):
     def test_all_open_scores_of_short_races(self):
         for race in short_races(4):
             opened, _ = reached_scores(race, 7)

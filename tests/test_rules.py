@@ -4,7 +4,7 @@ import itertools
 import random
 import unittest
 
-from scoring import play_slowly, short_races
+from scoring import ErrorCase, play_slowly, short_races
 from winbytwo import rules
 from winbytwo.errors import InvalidPoints, InvalidRace, MatchOver
 from winbytwo.rules import course, play, progress
@@ -37,13 +37,7 @@ def alternating(rule, length):
     return points
 
 
-class RuleCase(unittest.TestCase):
-    def assert_fails(self, wanted, value, call, *given):
-        with self.assertRaises(wanted) as told:
-            call(*given)
-        self.assertIs(type(told.exception), wanted)
-        self.assertEqual(told.exception.value, value)
-
+class RuleCase(ErrorCase):
     def assert_played(self, rule, points):
         """Compare all three functions with playing point by point."""
         number, winner, told = play_slowly(rule, points)
