@@ -4,6 +4,10 @@ a test case that compares errors."""
 import unittest
 
 OTHER = {"A": "B", "B": "A"}
+# Rules with one or two tuples that are no races, and the index of the first one.
+WRONG_RULES = [([(0, 0)], 0), ([(2, 1), (2, 3)], 1), ([(2, 0), (0, 2)], 0),
+               ([(1, 1), (2, 2), (4, 2), (4, -1)], 3), ([(2, 1), (3,)], 1),
+               ([(2, 1), (), (0, 0)], 1), ([(2, 1), (3, 2, 1)], 1)]
 
 
 class ErrorCase(unittest.TestCase):
@@ -17,6 +21,19 @@ class ErrorCase(unittest.TestCase):
 def short_races(most):
     """The races (n, m) with n up to `most`."""
     return [(n, m) for n in range(1, most + 1) for m in range(1, n + 1)]
+
+
+def short_rules(most, size):
+    """The rules of up to `size` races whose numbers n have a product of at most
+    `most`."""
+    found = [[]]
+    for rule in found:
+        left = most
+        for n, _ in rule:
+            left //= n
+        if len(rule) < size:
+            found.extend([*rule, race] for race in short_races(left))
+    return found
 
 
 def next_score(race, score, side):

@@ -4,7 +4,7 @@ import itertools
 import random
 import unittest
 
-from scoring import ErrorCase, play_slowly, short_races
+from scoring import ErrorCase, WRONG_RULES, play_slowly, short_races
 from winbytwo import rules
 from winbytwo.errors import InvalidPoints, InvalidRace, MatchOver
 from winbytwo.rules import course, play, progress
@@ -14,9 +14,6 @@ RULES = [[], [(1, 1)], [(1, 1), (1, 1)], [(2, 1)], [(2, 2)], [(4, 2)], [(3, 3)],
          [(3, 1), (2, 1), (2, 2)], [(4, 2), (3, 2), (2, 1)],
          [(2, 1), (1, 1), (2, 2), (3, 1)], [(2, 2), (2, 1), (2, 1), (3, 2)],
          [(4, 2), (6, 2), (2, 1)], [(12, 2), (6, 2), (2, 1), (3, 1)]]
-WRONG_RULES = [([(0, 0)], 0), ([(2, 1), (2, 3)], 1), ([(2, 0), (0, 2)], 0),
-               ([(1, 1), (2, 2), (4, 2), (4, -1)], 3), ([(2, 1), (3,)], 1),
-               ([(2, 1), (), (0, 0)], 1), ([(2, 1), (3, 2, 1)], 1)]
 CALLS = [play, course, lambda rule, points: next(progress(rule, points))]
 
 

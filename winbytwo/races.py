@@ -1,6 +1,7 @@
 """Races: which scores are open or final, and which have the same future."""
 
-from winbytwo.errors import InvalidNumber, InvalidRace, InvalidScore
+from winbytwo.checks import check_number
+from winbytwo.errors import InvalidRace, InvalidScore
 
 
 def is_race(race):
@@ -35,6 +36,18 @@ def is_won_at(race, own, other):
     return has_won(race, own, other) and is_open(race, (own - 1, other))
 
 
+def future_score(race, score):
+    """Return the least of the open scores with the same future."""
+    n, m = race
+    # From n - m units on, only the lead decides: a side that leads by m has
+    # n units by then.
+    spare = min(score) - (n - m)
+    if spare <= 0:
+        return score
+    a, b = score
+    return (a - spare, b - spare)
+
+
 def race_winner(race, score):
     """Return the side that wins the race at a final score, None at an open one."""
     check_race(race)
@@ -51,8 +64,7 @@ def race_winner(race, score):
 def final_scores(race, most):
     """Yield the final scores that A wins against at most `most` units of B."""
     check_race(race)
-    if most < 0:
-        raise InvalidNumber(most)
+    check_number(most)
     n, m = race
     # A lead of one unit wins at n units, so the loser has fewer than n.
     last = min(most, n - 1) if m == 1 else most
@@ -67,11 +79,4 @@ def same_open_scores(race, first, second):
         raise InvalidScore(first)
     if not is_open(race, second):
         raise InvalidScore(second)
-    if first == second:
-        return True
-    n, m = race
-    # From n - m units on, only the lead decides: a side that leads by m has
-    # n units by then.
-    if min(first) < n - m or min(second) < n - m:
-        return False
-    return first[0] - first[1] == second[0] - second[1]
+    return future_score(race, first) == future_score(race, second)

@@ -66,6 +66,18 @@ def walk(rule, points):
     return None, None, scores
 
 
+def open_scores(rule, points):
+    """Return the list of the scores after points that leave the match open.
+
+    This is the Open check: it raises an error for all other points.
+    """
+    check_letters(points)
+    number, _, scores = walk(rule, points)
+    if number is not None:
+        raise MatchOver(number)
+    return scores
+
+
 def play(rule, points):
     """Return the winner, None if there is none yet, and the list of the scores."""
     check_rule(rule)
