@@ -1,6 +1,6 @@
 """Rules as machines of open states, to compare the program with."""
 
-from scoring import next_score
+from scoring import next_score, play_slowly
 
 
 def least_score(race, score):
@@ -71,3 +71,56 @@ def future_classes(rules):
         if len(numbers) == many:
             return classes
         classes, many = refined, len(numbers)
+
+
+def slow_matches(rule, most):
+    """A dict of the matches of up to `most` points, in string order, by length
+    and winner."""
+    found = {}
+
+    def extend(points, state):
+        for side in "AB":
+            following = next_state(rule, state, side)
+            if following in ("A", "B"):
+                found.setdefault((len(points) + 1, following), []).append(points + side)
+            elif len(points) + 1 < most:
+                extend(points + side, following)
+
+    extend("", start_state(rule))
+    return found
+
+
+def slow_counts(rule, most, points=""):
+    """Count with a dict of all lists of scores: the numbers of strings of 0, 1,
+    .. further points at whose end A wins, and those at whose end B wins."""
+    found = {"A": [0], "B": [0]}
+    lists = {}
+    number, _, told = play_slowly(rule, points)
+    if number is None:
+        lists = {tuple(told[-1]): 1}
+    for _ in range(most):
+        following, ended = {}, {"A": 0, "B": 0}
+        for scores, ways in lists.items():
+            for side in "AB":
+                after = next_scores(rule, scores, side)
+                if after is None:
+                    ended[side] += ways
+                else:
+                    following[after] = following.get(after, 0) + ways
+        for side in "AB":
+            found[side].append(ended[side])
+        lists = following
+    return found
+
+
+def points_to_states(rule):
+    """A dict of all open states: the shortest points that lead to them."""
+    found = {start_state(rule): ""}
+    waiting = [start_state(rule)]
+    for state in waiting:
+        for side in "AB":
+            following = next_state(rule, state, side)
+            if following not in ("A", "B") and following not in found:
+                found[following] = found[state] + side
+                waiting.append(following)
+    return found

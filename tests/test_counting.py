@@ -1,10 +1,9 @@
 """Tests of points 2 to 6 and of winbytwo/counting.py."""
 
-import itertools
 import random
 import unittest
 
-from machines import next_scores, next_state, start_state
+from machines import slow_counts, slow_matches
 from scoring import ErrorCase, OTHER, WRONG_RULES, play_slowly, short_rules
 from winbytwo import counting
 from winbytwo.counting import (count_matches, longest_match, match_number, nth_match,
@@ -15,46 +14,6 @@ LENGTH = 11
 LARGE = [[(4, 2), (6, 2), (2, 1)], [(3, 2), (3, 2), (3, 2)], [(2, 1), (2, 1), (2, 1), (2, 1)],
          [(2, 2), (3, 1), (2, 2), (2, 1)], [(12, 12)], [(12, 2), (4, 1)], [(12, 1)], [(9, 5)],
          [(1, 1), (3, 3), (1, 1), (6, 2)], [(5, 5), (4, 4)], [(3, 2), (2, 2), (3, 2), (3, 1)]]
-
-
-def slow_matches(rule, most):
-    """A dict of the matches of up to `most` points, in string order, by length
-    and winner."""
-    found = {}
-
-    def extend(points, state):
-        for side in "AB":
-            following = next_state(rule, state, side)
-            if following in ("A", "B"):
-                found.setdefault((len(points) + 1, following), []).append(points + side)
-            elif len(points) + 1 < most:
-                extend(points + side, following)
-
-    extend("", start_state(rule))
-    return found
-
-
-def slow_counts(rule, most, points=""):
-    """Count with a dict of all lists of scores: the numbers of strings of 0, 1,
-    .. further points at whose end A wins, and those at whose end B wins."""
-    found = {"A": [0], "B": [0]}
-    lists = {}
-    number, _, told = play_slowly(rule, points)
-    if number is None:
-        lists = {tuple(told[-1]): 1}
-    for _ in range(most):
-        following, ended = {}, {"A": 0, "B": 0}
-        for scores, ways in lists.items():
-            for side in "AB":
-                after = next_scores(rule, scores, side)
-                if after is None:
-                    ended[side] += ways
-                else:
-                    following[after] = following.get(after, 0) + ways
-        for side in "AB":
-            found[side].append(ended[side])
-        lists = following
-    return found
 
 
 def slow_number(rule, points):

@@ -5,7 +5,8 @@ import random
 import unittest
 
 from machines import future_classes, machine, start_state, state_after
-from scoring import ErrorCase, OTHER, WRONG_RULES, play_slowly, short_races, short_rules
+from scoring import (ErrorCase, OTHER, WRONG_RULES, open_scores, play_slowly, points_to,
+                     random_rule, reduced_slowly, short_races, short_rules)
 from winbytwo import reduced as module
 from winbytwo.errors import InvalidPoints, InvalidRace, MatchOver
 from winbytwo.races import same_open_scores
@@ -18,51 +19,6 @@ GREAT = [[(12, 2), (6, 2), (2, 1), (3, 1)], [(5, 4), (5, 1), (5, 3), (4, 2)],
          [(12, 1), (12, 6), (3, 2)], [(10, 7), (12, 2), (4, 3)], [(5, 5), (5, 1), (5, 2), (4, 4)],
          [(12, 12), (12, 5), (3, 3)], [(3, 3), (4, 4), (12, 7), (3, 1)], [(2, 2), (12, 1), (12, 11)],
          [(1, 1), (7, 7), (1, 1), (9, 4)], [(12, 12), (12, 12)], [(6, 3), (8, 8), (9, 8)]]
-
-
-def reduced_slowly(rule):
-    """Do the steps of point 8, one at a time, until none is left."""
-    found = list(rule)
-    while (1, 1) in found:
-        found.remove((1, 1))
-    for at in range(len(found) - 1):
-        (n, m), (k, j) = found[at:at + 2]
-        if n == m and k == j:
-            return reduced_slowly(found[:at] + [(n * k, n * k)] + found[at + 2:])
-    return found
-
-
-def random_rule(dice, most=500):
-    """A rule whose numbers n have a product of at most `most`."""
-    rule = []
-    for _ in range(dice.randrange(5)):
-        n = dice.randint(1, min(12, most))
-        most //= n
-        m = dice.choice([1, n, dice.randint(1, n)])
-        rule.append((n, m))
-    return dice.sample(rule, len(rule))
-
-
-def points_to(rule, scores):
-    """Points after which the races have these open scores."""
-    points = ""
-    whole = 1
-    lengths = []
-    for n, _ in rule:
-        lengths.append(whole)
-        whole *= n
-    for (a, b), length in reversed(list(zip(scores, lengths))):
-        both = min(a, b)
-        points += ("A" * length + "B" * length) * both
-        points += "A" * length * (a - both) + "B" * length * (b - both)
-    return points
-
-
-def open_scores(race, most):
-    """All open scores of a race with at most so many units of both sides."""
-    n, m = race
-    return [(a, b) for a in range(most + 1) for b in range(most + 1)
-            if max(a, b) < n or (m > 1 and abs(a - b) < m)]
 
 
 class ReducedTest(unittest.TestCase):

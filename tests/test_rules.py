@@ -4,7 +4,7 @@ import itertools
 import random
 import unittest
 
-from scoring import ErrorCase, WRONG_RULES, play_slowly, short_races
+from scoring import ErrorCase, WRONG_RULES, play_slowly, random_points, short_races
 from winbytwo import rules
 from winbytwo.errors import InvalidPoints, InvalidRace, MatchOver
 from winbytwo.rules import course, play, progress
@@ -15,12 +15,6 @@ RULES = [[], [(1, 1)], [(1, 1), (1, 1)], [(2, 1)], [(2, 2)], [(4, 2)], [(3, 3)],
          [(2, 1), (1, 1), (2, 2), (3, 1)], [(2, 2), (2, 1), (2, 1), (3, 2)],
          [(4, 2), (6, 2), (2, 1)], [(12, 2), (6, 2), (2, 1), (3, 1)]]
 CALLS = [play, course, lambda rule, points: next(progress(rule, points))]
-
-
-def random_points(dice, length):
-    """Points of which one side or the other one wins more, or neither."""
-    share = dice.choice([0.05, 0.3, 0.5, 0.5, 0.7, 0.95])
-    return "".join("A" if dice.random() < share else "B" for _ in range(length))
 
 
 def alternating(rule, length):

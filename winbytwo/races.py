@@ -36,6 +36,16 @@ def is_won_at(race, own, other):
     return has_won(race, own, other) and is_open(race, (own - 1, other))
 
 
+def winner_at(race, score):
+    """Return the side that wins the race at a final score, None at all others."""
+    a, b = score
+    if is_won_at(race, a, b):
+        return "A"
+    if is_won_at(race, b, a):
+        return "B"
+    return None
+
+
 def future_score(race, score):
     """Return the least of the open scores with the same future."""
     n, m = race
@@ -53,12 +63,10 @@ def race_winner(race, score):
     check_race(race)
     if is_open(race, score):
         return None
-    a, b = score
-    if is_won_at(race, a, b):
-        return "A"
-    if is_won_at(race, b, a):
-        return "B"
-    raise InvalidScore(score)
+    winner = winner_at(race, score)
+    if winner is None:
+        raise InvalidScore(score)
+    return winner
 
 
 def final_scores(race, most):
